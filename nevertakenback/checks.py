@@ -1,0 +1,33 @@
+"""Checks of single arguments: each one raises the error that is named for its kind of argument."""
+
+from nevertakenback.errors import BadTick, NoBall, NoPlace, NoPlayer
+from nevertakenback.words import is_tick
+
+
+def is_known(value, names):
+    """Whether any value is one of the names, which may be told as a tuple or as the keys of a dict."""
+    return isinstance(value, str) and value in names
+
+
+def check_place(court, value):
+    """Raises NoPlace unless the value is the name of a place of the court."""
+    if not is_known(value, court.places):
+        raise NoPlace(value)
+
+
+def check_player(court, value):
+    """Raises NoPlayer unless the value is the name of a player of the court."""
+    if not is_known(value, court.rooms):
+        raise NoPlayer(value)
+
+
+def check_ball(court, value):
+    """Raises NoBall unless the value is the name of a ball of the court."""
+    if not is_known(value, court.starts):
+        raise NoBall(value)
+
+
+def check_tick(value):
+    """Raises BadTick unless the value is a tick."""
+    if not is_tick(value):
+        raise BadTick(value)

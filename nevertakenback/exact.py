@@ -1,0 +1,24 @@
+"""Fractions: tuples (top, bottom) of integers in least terms, bottom from 1 on."""
+
+from math import gcd
+
+
+def fraction(top, bottom):
+    """The fraction in least terms that is top divided by bottom, bottom being above 0."""
+    common = gcd(top, bottom)
+    return (top // common, bottom // common)
+
+
+def is_at_most(one, other):
+    """Whether the one fraction is worth the other one at most."""
+    return one[0] * other[1] <= other[0] * one[1]
+
+
+def lesser(one, other):
+    """The one of two fractions that is worth less."""
+    return one if is_at_most(one, other) else other
+
+
+def minus(one, other):
+    """The one fraction less the other one."""
+    return fraction(one[0] * other[1] - other[0] * one[1], one[1] * other[1])

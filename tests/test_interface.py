@@ -1,0 +1,62 @@
+"""The interface: names, parameters, and the files in which they are defined."""
+
+import inspect
+import unittest
+
+from nevertakenback import courts, plays
+from nevertakenback.courts import Court
+from nevertakenback.plays import Play
+from tests.samples import LINE, PLAY, TRIANGLE, court_of, play_of, text_of
+
+PARAMETERS = {
+    courts: {
+        "Court": ["text"], "give": ["court"], "distance": ["court", "place", "other"],
+        "shortest": ["court", "place", "other"], "owner": ["court", "place"], "apart": ["court", "player", "other"],
+        "delay": ["court", "player", "other"], "with_delay": ["court", "player", "other", "ticks"],
+        "with_length": ["court", "place", "other", "length"], "with_stretch": ["court", "p", "q"],
+    },
+    plays: {
+        "Play": ["court", "text"], "where": ["play", "ball", "tick"], "legs": ["play", "ball"], "strikers": ["play"],
+        "meetings": ["play"], "last_tick": ["play"], "with_strike": ["play", "strike"],
+    },
+}
+
+
+class Interface(unittest.TestCase):
+    def test_names_parameters_and_files(self):
+        for module, rows in PARAMETERS.items():
+            for name, parameters in rows.items():
+                found = getattr(module, name)
+                self.assertEqual(list(inspect.signature(found).parameters), parameters, name)
+                self.assertEqual(found.__module__, module.__name__)
+                self.assertEqual(found.__name__, name)
+
+    def test_equality_is_defined_in_the_classes_themselves(self):
+        self.assertIn("__eq__", vars(Court))
+        self.assertIn("__eq__", vars(Play))
+
+    def test_attributes_are_set_when_the_object_is_created(self):
+        for name in ("text", "stretch", "places", "ways", "players", "delays", "balls"):
+            self.assertIn(name, vars(court_of(LINE)))
+        for name in ("court", "text", "strikes"):
+            self.assertIn(name, vars(play_of(PLAY, LINE)))
+
+    def test_all_arguments_by_name(self):
+        court = Court(text=text_of(TRIANGLE))
+        self.assertEqual(courts.give(court=court), (1, 2))
+        self.assertEqual(courts.distance(court=court, other="c", place="a"), 6)
+        self.assertEqual(courts.shortest(court=court, other="c", place="a"), ("a", "b", "c"))
+        self.assertEqual(courts.owner(place="a", court=court), "ann")
+        self.assertEqual(courts.apart(court=court, player="ann", other="bob"), 6)
+        self.assertEqual(courts.delay(court=court, player="bob", other="ann"), 3)
+        self.assertEqual(courts.with_delay(court=court, player="bob", other="ann", ticks=1).delays[1][2], 1)
+        self.assertEqual(courts.with_length(court=court, place="a", other="b", length=9).ways[0], ("a", "b", 9))
+        self.assertEqual(courts.with_stretch(court=court, p=(1, 1), q=(2, 1)).stretch, ((1, 1), (2, 1)))
+        play = Play(text=text_of(PLAY), court=court_of(LINE))
+        self.assertEqual(plays.where(tick=3, ball="x", play=play), ("at", "b"))
+        self.assertEqual(plays.legs(ball="x", play=play)[0], ("a", "b", 0, 3))
+        self.assertEqual(plays.strikers(play=play)[0], ("p", "a"))
+        self.assertEqual(plays.meetings(play=play), ((3, "b", ("x", "y")),))
+        self.assertEqual(plays.last_tick(play=play), 12)
+        more = plays.with_strike(play=play, strike=(5, "x", (("b", 2), ("a", 2))))
+        self.assertEqual(len(more.strikes), 4)
