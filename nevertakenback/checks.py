@@ -1,7 +1,7 @@
 """Checks of single arguments: each one raises the error that is named for its kind of argument."""
 
-from nevertakenback.errors import BadTick, NoBall, NoPlace, NoPlayer
-from nevertakenback.words import is_tick
+from nevertakenback.errors import BadField, BadLags, BadTick, NoBall, NoPlace, NoPlayer
+from nevertakenback.words import is_row, is_tick
 
 
 def is_known(value, names):
@@ -31,3 +31,15 @@ def check_tick(value):
     """Raises BadTick unless the value is a tick."""
     if not is_tick(value):
         raise BadTick(value)
+
+
+def check_lags(court, value):
+    """Raises BadLags unless the value is a row of lags."""
+    if not is_row(value, len(court.players)):
+        raise BadLags(value)
+
+
+def check_field(court, value):
+    """Raises BadField unless the value is a field."""
+    if not is_row(value, len(court.places)):
+        raise BadField(value)

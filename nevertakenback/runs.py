@@ -13,6 +13,9 @@ class Run:
         self.left = {ball: () for ball in court.starts}
         self.flights = {}
         self.legs = {ball: [] for ball in court.starts}
+        # Of each ball (tick, place, left): from this tick on it was there with so much left of its course, and lay
+        # there if that was nothing; otherwise it flew off in this very tick.
+        self.stays = {ball: [(0, court.starts[ball], ())] for ball in court.starts}
         self.meetings = []
         self.strikers = []
 
@@ -26,6 +29,7 @@ class Run:
         if place not in self.court.owners or not is_course(self.court, place, course):
             return False
         self.left[ball] = course
+        self.stays[ball].append((tick, place, course))
         self.strikers.append((self.court.owners[place], place))
         return True
 
@@ -65,6 +69,8 @@ class Run:
         for place in sorted(came):
             if len(came[place]) > 1:
                 self.meet(place, came[place])
+        for ball in coming:
+            self.stays[ball].append((self.tick, self.places[ball], self.left[ball]))
 
     def meet(self, place, balls):
         """Gives each of the balls what was left of the next one's course."""

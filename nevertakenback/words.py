@@ -34,6 +34,16 @@ def is_fraction(value):
     return value[1] >= 1 and gcd(value[0], value[1]) == 1
 
 
+def is_time(value):
+    """Whether any value is a time."""
+    return is_fraction(value) and value[0] >= 0
+
+
+def is_row(value, many):
+    """Whether any value is a tuple of so many fractions from 0 on."""
+    return isinstance(value, tuple) and len(value) == many and all([is_time(part) for part in value])
+
+
 def is_stretch(p, q):
     """Whether any two values are the fractions that a stretch line may tell."""
     if not is_fraction(p) or not is_fraction(q):

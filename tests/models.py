@@ -123,6 +123,7 @@ class SlowPlay:
         # Of each ball: its place, the place it flies to or None, the ticks flown and needed, what is left.
         self.balls = {ball: [place, None, 0, 0, []] for ball, place in court.balls}
         self.spots = []
+        self.there = []
         self.legs = {ball: [] for ball in self.balls}
         self.meetings = []
         self.strikers = []
@@ -149,12 +150,17 @@ class SlowPlay:
             self.balls[ball][4] = list(course)
             self.strikers.append((self.rooms[self.balls[ball][0]], self.balls[ball][0]))
         self.spots.append({ball: self.spot(state) for ball, state in self.balls.items()})
+        self.there.append({place: self.balls_at(place) for place in self.court.places})
         for ball, state in self.balls.items():
             if state[1] is None and state[4]:
                 (state[1], state[3]), state[2] = state[4].pop(0), 0
                 self.legs[ball].append((state[0], state[1], self.tick, self.tick + state[3]))
         self.tick += 1
         return True
+
+    def balls_at(self, place):
+        here = [ball for ball, state in self.balls.items() if state[1] is None and state[0] == place]
+        return tuple((ball, tuple(self.balls[ball][4])) for ball in sorted(here))
 
     def spot(self, state):
         if state[1] is None:

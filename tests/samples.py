@@ -1,10 +1,12 @@
 """Courts, plays and wrong values that several tests need."""
 
+import itertools
 import random
 import unittest
 
 from nevertakenback.courts import Court
-from nevertakenback.plays import Play
+from nevertakenback.errors import CannotStand
+from nevertakenback.plays import Play, last_tick, where, with_strike
 
 LETTERS = "abcdefghijkl"
 
@@ -71,6 +73,19 @@ def wrong_values():
     ]
 
 
+def wrong_rows(row):
+    """Values that are no rows of times, made from one, and values of all kinds."""
+    parts = [
+        (2, 4), (0, 2), (-1, 1), (-1, 2), (1, 0), (0, 0), (1, -2), (True, 1), (1, True), (False, 1), (1,), (1, 2, 3),
+        [1, 2], 0, 1, True, None, "1/2", "0", ("1", "2"), (), ((1, 2), 1), {}, row,
+    ]
+    wrong = [value for value in wrong_values() if not isinstance(value, tuple)]
+    wrong += [list(row), row[:-1], row + row[:1], (), (row,), row * 2, deep(30), ("lags", row), (None,) * len(row)]
+    for at in range(len(row)):
+        wrong += [row[:at] + (part,) + row[at + 1:] for part in parts]
+    return wrong
+
+
 class Case(unittest.TestCase):
     """A test case that can ask for an error with its value."""
 
@@ -79,6 +94,21 @@ class Case(unittest.TestCase):
             call(*args, **more)
         self.assertIs(type(caught.exception), error)
         self.same(caught.exception.value, value)
+
+    def in_sequence(self, call, right, *due):
+        """Whichever arguments are wrong at once: of the errors that are due the first one is raised.
+
+        Each of due is (index of the argument, error, wrong value), and the error's value if that is another one.
+        """
+        call(*right)
+        for many in range(1, len(due) + 1):
+            for chosen in itertools.combinations(due, many):
+                if len({row[0] for row in chosen}) < many:
+                    continue
+                told = list(right)
+                for row in chosen:
+                    told[row[0]] = row[2]
+                self.refuses(chosen[0][1], chosen[0][-1], call, *told)
 
     def same(self, one, other):
         """Equal, and of the same kinds throughout, so that True is not 1."""
@@ -96,6 +126,38 @@ def any_name(chance, taken):
         if name not in taken:
             taken.append(name)
             return name
+
+
+def any_soft_court(chance, most_places=6, most_length=9):
+    """Some court, often one that has right rows of lags: softer, and with lesser delays, than any court."""
+    lines = any_court_lines(chance, most_places, most_length)
+    lines[1] = chance.choice(("stretch 1/2 2", "stretch 1/3 5/3", "stretch 1/4 99", "stretch 1/5 3/2", "stretch 3/4 2"))
+    for at, line in enumerate(lines):
+        if line.startswith("delay "):
+            lines[at] = " ".join(line.split(" ")[:3] + [str(chance.choice((0, 1, 2, 3, 4, 7)))])
+    return court_of(lines)
+
+
+def any_play(chance, court, most_strikes=12):
+    """Some play of the court, often one of strikes that come soon behind one another."""
+    play = Play(court, "play")
+    for _ in range(chance.randint(0, most_strikes)):
+        more = any_strike(chance, play, chance.choice((0, 1, chance.randint(0, last_tick(play) + 2))))
+        if more is not None:
+            play = more
+    return play
+
+
+def any_strike(chance, play, tick):
+    """The play with one more strike in this tick, None if the one that was tried cannot stand."""
+    ball = chance.choice(play.court.balls)[0]
+    spot = where(play, ball, tick)
+    if spot[0] != "at":
+        return None
+    try:
+        return with_strike(play, (tick, ball, any_course(chance, play.court, spot[1])))
+    except CannotStand:
+        return None
 
 
 def any_court_lines(chance, most_places=6, most_length=4):

@@ -34,11 +34,68 @@ PLAYS = r"""
 [(5, 'x', (('b', 2), ('a', 2))), (('a', 'b', 5, 7), ('b', 'a', 7, 9)), 'strike 20 y b 9 c 3']
 """
 
+CONES = r"""
+>>> from nevertakenback.cones import balls_at, cone, first_unlike, kept, seen_alike
+>>> from nevertakenback.courts import Court
+>>> from nevertakenback.plays import Play
+>>> rows = ['court', 'stretch 1/2 2', 'place a', 'place b', 'place c', 'way a b 2', 'way b c 3', 'player p a', 'player q c']
+>>> court = Court('\n'.join(rows + ['delay p q 3', 'delay q p 1', 'ball x a', 'ball y c']))
+>>> play = Play(court, 'play\nstrike 0 x b 3 c 3\nstrike 0 y b 3 a 2\nstrike 6 y b 4 a 2')
+>>> [cone(play, 'a', 4), cone(play, 'a', 5), cone(play, 'b', 3), cone(play, 'b', 9)]
+[(0,), (0, 1), (0, 1), (0, 1, 2)]
+>>> [balls_at(play, 'b', 3), balls_at(play, 'c', 6), balls_at(play, 'a', 5), balls_at(play, 'a', 4)]
+[(('x', (('a', 2),)), ('y', (('c', 3),))), (('y', (('b', 4), ('a', 2))),), (('x', ()),), ()]
+>>> alone = kept(play, (0,))
+>>> [alone.text.split('\n')[1:], balls_at(alone, 'b', 3), kept(play, (0, 2)).strikes == alone.strikes]
+[['strike 0 x b 3 c 3'], (('x', (('c', 3),)),), False]
+>>> [seen_alike(play, alone, 'a', 4), seen_alike(play, alone, 'a', 5), first_unlike(play, alone), first_unlike(play, play)]
+[True, False, (0, 'c'), None]
+"""
+
+RINGS = r"""
+>>> from nevertakenback.courts import Court
+>>> from nevertakenback.lags import greatest_delay, least_above, noughts
+>>> from nevertakenback.rings import holds, is_right, needs, ring_need, shows_holds
+>>> lines = ['court', 'stretch 1/2 2', 'place a', 'place m', 'place b', 'place c', 'way a m 4', 'way m b 4', 'way m c 2']
+>>> lines = lines + ['player ann a', 'player bob b', 'player cid c', 'delay ann bob 5', 'delay bob ann 2', 'delay ann cid 1']
+>>> court = Court('\n'.join(lines + ['delay cid ann 4', 'delay bob cid 3', 'delay cid bob 2', 'ball x a']))
+>>> needs(court)
+(('ann', 'bob', (1, 1)), ('ann', 'cid', (-2, 1)), ('bob', 'ann', (-2, 1)), ('bob', 'cid', (0, 1)), ('cid', 'ann', (1, 1)), ('cid', 'bob', (-1, 1)))
+>>> [holds(court)[0], is_right(court, ((1, 1), (0, 1), (2, 1))), shows_holds(court, ('ring', ('bob', 'cid', 'ann')))]
+['ring', False, True]
+>>> [ring_need(court, ('ann', 'bob', 'cid')), ring_need(court, ('ann', 'bob')), ring_need(court, ('bob', 'cid')), ring_need(court, ('ann', 'cid', 'bob'))]
+[(2, 1), (-1, 1), (-1, 1), (-5, 1)]
+>>> calm = Court('\n'.join(lines + ['delay cid ann 4', 'delay bob cid 1', 'delay cid bob 2', 'ball x a']))
+>>> [holds(calm), noughts(calm), least_above(calm, ((0, 1), (1, 1), (0, 1)))]
+[('lags', ((1, 1), (0, 1), (2, 1))), ('bob',), ((2, 1), (1, 1), (3, 1))]
+>>> [greatest_delay(calm, 'bob', 'cid'), greatest_delay(calm, 'ann', 'bob'), shows_holds(calm, ('lags', ((2, 1), (1, 1), (3, 1))))]
+[1, 5, False]
+"""
+
+FIELDS = r"""
+>>> from nevertakenback.courts import Court
+>>> from nevertakenback.fields import all_fields, field_on, greatest_field, is_field, least_field
+>>> lines = ['court', 'stretch 1/2 2', 'place a', 'place m', 'place b', 'place f', 'way a m 4', 'way m b 4', 'way m f 6']
+>>> court = Court('\n'.join(lines + ['player ann a', 'player bob b', 'delay ann bob 3', 'delay bob ann 4', 'ball x a']))
+>>> lags = ((0, 1), (0, 1))
+>>> [least_field(court, lags, 'ann'), greatest_field(court, lags, 'ann')]
+[((0, 1), (1, 1), (3, 1), (0, 1)), ((0, 1), (2, 1), (4, 1), (5, 1))]
+>>> all_fields(court, lags)[1]
+((4, 1), (2, 1), (0, 1), (0, 1))
+>>> [is_field(court, lags, 'ann', field) for field in (((0, 1), (1, 1), (3, 1), (4, 1)), ((0, 1), (1, 1), (3, 1), (9, 2)), ((0, 1), (3, 2), (5, 2), (0, 1)))]
+[True, False, False]
+>>> [field_on(court, least_field(court, lags, 'ann'), ('on', 'm', 'b', (1, 4))), field_on(court, least_field(court, lags, 'ann'), ('at', 'b'))]
+[(3, 2), (3, 1)]
+"""
+
 
 def example(name, text):
     """A test that runs the examples in this text."""
     return doctest.DocTestCase(doctest.DocTestParser().get_doctest(text, {}, name, None, 0))
 
 
+SECTIONS = {4: COURTS, 5: PLAYS, 6: CONES, 7: RINGS, 8: FIELDS}
+
+
 def load_tests(loader, tests, pattern):
-    return unittest.TestSuite([example("section 4", COURTS), example("section 5", PLAYS)])
+    return unittest.TestSuite([example(f"section {number}", text) for number, text in SECTIONS.items()])

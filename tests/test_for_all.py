@@ -4,7 +4,7 @@ from nevertakenback.courts import apart, delay, distance, give, owner, shortest,
 from nevertakenback.errors import BadPlay
 from nevertakenback.plays import Play, last_tick, legs, meetings, strikers, where, with_strike
 from tests.models import rows_between, slow_play
-from tests.samples import Case, any_court_lines, any_course, court_of, seed, text_of
+from tests.samples import Case, any_court_lines, any_course, any_play, court_of, seed, text_of
 
 
 class Courts(Case):
@@ -82,17 +82,7 @@ class Plays(Case):
         chance = seed(number)
         for _ in range(count):
             court = court_of(any_court_lines(chance, chance.choice((3, 4, 6)), 2))
-            play = Play(court, "play")
-            for _ in range(chance.randint(1, 12)):
-                ball = chance.choice(court.balls)[0]
-                tick = chance.choice((0, 1, chance.randint(0, last_tick(play) + 2)))
-                spot = where(play, ball, tick)
-                if spot[0] == "at":
-                    steps = any_course(chance, court, spot[1])
-                    try:
-                        play = with_strike(play, (tick, ball, steps))
-                    except ValueError:
-                        pass
+            play = any_play(chance, court)
             yield play
 
     def test_as_the_slow_play_tells_it(self):

@@ -3,7 +3,7 @@
 import inspect
 import unittest
 
-from nevertakenback import courts, plays
+from nevertakenback import cones, courts, fields, lags, plays, rings
 from nevertakenback.courts import Court
 from nevertakenback.plays import Play
 from tests.samples import LINE, PLAY, TRIANGLE, court_of, play_of, text_of
@@ -18,6 +18,22 @@ PARAMETERS = {
     plays: {
         "Play": ["court", "text"], "where": ["play", "ball", "tick"], "legs": ["play", "ball"], "strikers": ["play"],
         "meetings": ["play"], "last_tick": ["play"], "with_strike": ["play", "strike"],
+    },
+    cones: {
+        "cone": ["play", "place", "tick"], "balls_at": ["play", "place", "tick"], "kept": ["play", "numbers"],
+        "seen_alike": ["one", "other", "place", "tick"], "first_unlike": ["one", "other"],
+    },
+    rings: {
+        "needs": ["court"], "ring_need": ["court", "players"], "is_right": ["court", "lags"], "holds": ["court"],
+        "shows_holds": ["court", "value"],
+    },
+    lags: {
+        "least_above": ["court", "floors"], "noughts": ["court"], "greatest_delay": ["court", "player", "other"],
+    },
+    fields: {
+        "least_field": ["court", "lags", "player"], "greatest_field": ["court", "lags", "player"],
+        "is_field": ["court", "lags", "player", "field"], "all_fields": ["court", "lags"],
+        "field_on": ["court", "field", "spot"],
     },
 }
 
@@ -60,3 +76,29 @@ class Interface(unittest.TestCase):
         self.assertEqual(plays.last_tick(play=play), 12)
         more = plays.with_strike(play=play, strike=(5, "x", (("b", 2), ("a", 2))))
         self.assertEqual(len(more.strikes), 4)
+
+    def test_all_arguments_of_cones_by_name(self):
+        play = play_of(PLAY, LINE)
+        self.assertEqual(cones.cone(tick=5, place="a", play=play), (0, 1))
+        self.assertEqual(cones.balls_at(tick=5, place="a", play=play), (("x", ()),))
+        alone = cones.kept(numbers=(0,), play=play)
+        self.assertEqual(cones.seen_alike(tick=5, place="a", other=alone, one=play), False)
+        self.assertEqual(cones.first_unlike(other=alone, one=play), (0, "c"))
+
+    def test_all_arguments_of_rings_and_lags_by_name(self):
+        court = court_of(LINE)
+        told, row = (("p", "q", (1, 2)), ("q", "p", (-3, 2))), ((1, 2), (0, 1))
+        self.assertEqual([rings.needs(court=court), rings.ring_need(players=("p", "q"), court=court)], [told, (-1, 1)])
+        self.assertEqual([rings.is_right(lags=row, court=court), rings.holds(court=court)], [True, ("lags", row)])
+        self.assertEqual(rings.shows_holds(value=("lags", row), court=court), True)
+        self.assertEqual([lags.least_above(floors=row, court=court), lags.noughts(court=court)], [row, ("q",)])
+        self.assertEqual(lags.greatest_delay(other="q", player="p", court=court), 4)
+
+    def test_all_arguments_of_fields_by_name(self):
+        court, row = court_of(LINE), ((1, 2), (0, 1))
+        least = ((1, 2), (3, 2), (3, 1))
+        self.assertEqual(fields.least_field(player="p", lags=row, court=court), least)
+        self.assertEqual(fields.greatest_field(player="p", lags=row, court=court), least)
+        self.assertEqual(fields.is_field(field=least, player="p", lags=row, court=court), True)
+        self.assertEqual(fields.all_fields(lags=row, court=court)[0], least)
+        self.assertEqual(fields.field_on(spot=("at", "b"), field=least, court=court), (3, 2))

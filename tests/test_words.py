@@ -1,11 +1,11 @@
 """Section 2: what integers, fractions, ticks, names and courses are."""
 
 from nevertakenback.courses import is_course
-from nevertakenback.exact import fraction, is_at_most, lesser, minus
+from nevertakenback.exact import fraction, greatest, is_at_most, is_less, lesser, minus, plus, times
 from nevertakenback.words import (
-    is_fraction, is_integer, is_integer_from, is_name, is_tick, read_fraction, read_integer, write_fraction,
+    is_fraction, is_integer, is_integer_from, is_name, is_row, is_tick, is_time, read_fraction, read_integer, write_fraction,
 )
-from tests.samples import LINE, Case, court_of, wrong_values
+from tests.samples import LINE, Case, court_of, wrong_rows, wrong_values
 
 
 class Values(Case):
@@ -31,6 +31,20 @@ class Values(Case):
         ]
         for value in wrong_values() + wrong:
             self.assertFalse(is_fraction(value))
+
+    def test_times(self):
+        for value in ((0, 1), (1, 1), (1, 2), (10 ** 9, 7)):
+            self.assertTrue(is_time(value))
+        for value in wrong_values() + [(-1, 1), (-1, 2), (0, 2), (2, 4), (1, -2), [1, 2], 1, (True, 1), (1, True)]:
+            self.assertFalse(is_time(value))
+
+    def test_rows_of_times(self):
+        for value in ((), ((0, 1),), ((1, 2), (0, 1), (7, 3))):
+            self.assertTrue(is_row(value, len(value)))
+            self.assertFalse(is_row(value, len(value) + 1))
+            self.assertFalse(is_row(value, len(value) - 1))
+        for value in wrong_rows(((1, 2), (0, 1))):
+            self.assertFalse(is_row(value, 2))
 
     def test_names(self):
         for value in ("a", "z", "abcdef", "zzzzzz"):
@@ -74,6 +88,14 @@ class Fractions(Case):
     def test_least_terms(self):
         self.same([fraction(6, 4), fraction(-6, 4), fraction(0, 5), fraction(8, 2)], [(3, 2), (-3, 2), (0, 1), (4, 1)])
         self.same([minus((1, 1), (1, 2)), minus((1, 6), (2, 3)), minus((1, 2), (1, 2))], [(1, 2), (-1, 2), (0, 1)])
+
+    def test_sums_and_products(self):
+        self.same([plus((1, 2), (1, 3)), plus((1, 2), (-1, 2)), plus((3, 2), (1, 2))], [(5, 6), (0, 1), (2, 1)])
+        self.same([times((2, 3), (3, 2)), times((-1, 2), (1, 3)), times((0, 1), (7, 2))], [(1, 1), (-1, 6), (0, 1)])
+
+    def test_the_greatest_one(self):
+        self.same([greatest([(1, 2)]), greatest([(1, 2), (2, 3), (-9, 1)]), greatest([(0, 1), (-1, 7)])], [(1, 2), (2, 3), (0, 1)])
+        self.assertEqual([is_less((1, 2), other) for other in ((1, 3), (1, 2), (2, 3))], [False, False, True])
 
     def test_by_what_they_are_worth(self):
         self.assertEqual([is_at_most((1, 2), other) for other in ((1, 3), (1, 2), (2, 3))], [False, True, True])
