@@ -4,7 +4,7 @@ from nevertakenback.checks import check_place, check_tick
 from nevertakenback.errors import BadNumbers, Unlike
 from nevertakenback.plays import Play, strikers, write_strike
 from nevertakenback.runs import Run
-from nevertakenback.words import is_integer_from, is_tick
+from nevertakenback.words import is_integer_from
 
 
 def cone(play, place, tick):
@@ -74,22 +74,10 @@ def check_alike_courts(one, other):
 def first_unlike(one, other):
     """The least (tick, place) at which both plays are not seen alike, None if there is none."""
     check_alike_courts(one, other)
-    if one.strikes == other.strikes:
-        return None
-    for tick in changing_ticks(one, other):
+    # As long as all is alike, nothing but a strike makes it unlike; so no other ticks need be looked at.
+    for tick in sorted(set([strike[0] for strike in one.strikes + other.strikes])):
         found, match = gathered(one, tick), gathered(other, tick)
         for place in one.court.places:
             if found.get(place) != match.get(place):
                 return (tick, place)
     return None
-
-
-def changing_ticks(one, other):
-    """All ticks, ascending, in which in one of both plays something is at a place, or not, unlike the tick ahead."""
-    ticks = []
-    for play in (one, other):
-        for ball in play.run.stays:
-            for stay in play.run.stays[ball]:
-                # In the tick behind that of a stay the ball is no longer there if it flew off.
-                ticks.extend([stay[0], stay[0] + 1])
-    return [tick for tick in sorted(set(ticks)) if is_tick(tick)]

@@ -1,6 +1,6 @@
 """Fields: how late a player sees what is at each place."""
 
-from nevertakenback.checks import check_field, check_lags, check_player, is_known
+from nevertakenback.checks import check_field, check_player, is_known
 from nevertakenback.courts import delay, give
 from nevertakenback.errors import BadSpot, WrongLags
 from nevertakenback.exact import greatest, minus, plus, times
@@ -17,8 +17,7 @@ def least_field(court, lags, player):
 
 
 def check_right_lags(court, lags):
-    """Raises BadLags unless this is a row of lags, WrongLags unless it is right."""
-    check_lags(court, lags)
+    """Raises BadLags, as is_right does, unless this is a row of lags, and WrongLags unless it is right."""
     if not is_right(court, lags):
         raise WrongLags(None)
 
@@ -58,7 +57,6 @@ def is_field(court, lags, player, field):
 
 def all_fields(court, lags):
     """The least fields of all players."""
-    check_right_lags(court, lags)
     return tuple([least_field(court, lags, player) for player in court.rooms])
 
 

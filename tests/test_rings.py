@@ -276,6 +276,8 @@ class GreatestDelay(Case):
             self.refuses(NoPlayer, value, greatest_delay, court, value, "ann")
             self.refuses(NoPlayer, value, greatest_delay, court, "ann", value)
             self.refuses(NoPlayer, value, greatest_delay, court, value, "dan")
+            self.refuses(NoPlayer, value, greatest_delay, court_of(STAR), value, "ann")
+            self.refuses(NoPlayer, value, greatest_delay, court_of(STAR), "ann", value)
         for name in ("ann", "bob", "cid"):
             self.refuses(Same, name, greatest_delay, court, name, name)
             self.refuses(Same, name, greatest_delay, court_of(STAR), name, name)
