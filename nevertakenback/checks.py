@@ -1,7 +1,7 @@
 """Checks of single arguments: each one raises the error that is named for its kind of argument."""
 
-from nevertakenback.errors import BadField, BadLags, BadTick, NoBall, NoPlace, NoPlayer
-from nevertakenback.words import is_row, is_tick
+from nevertakenback.errors import BadField, BadFields, BadLags, BadTick, BadTime, NoBall, NoPlace, NoPlayer
+from nevertakenback.words import is_row, is_tick, is_time
 
 
 def is_known(value, names):
@@ -33,6 +33,12 @@ def check_tick(value):
         raise BadTick(value)
 
 
+def check_time(value):
+    """Raises BadTime unless the value is a time."""
+    if not is_time(value):
+        raise BadTime(value)
+
+
 def check_lags(court, value):
     """Raises BadLags unless the value is a row of lags."""
     if not is_row(value, len(court.players)):
@@ -43,3 +49,11 @@ def check_field(court, value):
     """Raises BadField unless the value is a field."""
     if not is_row(value, len(court.places)):
         raise BadField(value)
+
+
+def check_fields(court, value):
+    """Raises BadFields unless the value is a tuple of one field for each player."""
+    if not isinstance(value, tuple) or len(value) != len(court.players):
+        raise BadFields(value)
+    if not all([is_row(field, len(court.places)) for field in value]):
+        raise BadFields(value)

@@ -46,3 +46,8 @@ def minus(one, other):
 def times(one, other):
     """The product of two fractions."""
     return fraction(one[0] * other[0], one[1] * other[1])
+
+
+def over(one, other):
+    """The one fraction divided by the other one, which is above 0."""
+    return fraction(one[0] * other[1], one[1] * other[0])

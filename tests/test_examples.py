@@ -88,13 +88,75 @@ FIELDS = r"""
 [(3, 2), (3, 1)]
 """
 
+FAULTS = r"""
+>>> from nevertakenback.courts import Court
+>>> from nevertakenback.faults import breaking, fault, shows_breaking
+>>> from nevertakenback.fields import all_fields
+>>> lines = ['court', 'stretch 1/2 2', 'place a', 'place m', 'place b', 'place f', 'way a m 4', 'way m b 4', 'way m f 6']
+>>> court = Court('\n'.join(lines + ['player ann a', 'player bob b', 'delay ann bob 3', 'delay bob ann 4', 'ball x a']))
+>>> lags, fine = ((0, 1), (0, 1)), all_fields(court, ((0, 1), (0, 1)))
+>>> fine
+(((0, 1), (1, 1), (3, 1), (0, 1)), ((4, 1), (2, 1), (0, 1), (0, 1)))
+>>> rows = [((0, 1), (1, 1), (5, 2), (0, 1)), ((1, 1), (1, 1), (2, 1), (0, 1)), ((0, 1), (4, 1), (3, 1), (0, 1))]
+>>> [fault(court, lags, fine), [fault(court, lags, (row, fine[1])) for row in rows]]
+[None, [('news', 'ann', 'bob', 'b'), ('home', 'ann', 'a'), ('steep', 'ann', 'a', 'm')]]
+>>> soon = (rows[0], fine[1])
+>>> texts = ['play\nstrike 0 x m 4 b 4\nstrike 8 x m 4 b 4', 'play\nstrike 0 x m 4 b 4', 'play\nstrike 0 x m 4 b 9\nstrike 30 x m 5 a 4']
+>>> [shows_breaking(court, lags, soon, ('news', 'ann', 'bob', 'b', text)) for text in texts]
+[True, False, True]
+>>> late = (((1, 1), (1, 1), (3, 1), (0, 1)), ((5, 1), (3, 1), (0, 1), (0, 1)))
+>>> [fault(court, ((1, 1), (0, 1)), late), breaking(court, ((1, 1), (0, 1)), late)[:4]]
+[('steep', 'bob', 'm', 'b'), ('steep', 'bob', 'm', 'b')]
+>>> [shows_breaking(court, ((1, 1), (0, 1)), late, ('steep', 'bob', 'm', 'b', texts[0], 'x', number)) for number in (0, 1, 2, 3)]
+[False, True, False, True]
+>>> [shows_breaking(court, lags, (rows[1], fine[1]), ('home', 'ann', 'a', text, 1)) for text in ('play\nstrike 0 x m 4 a 4\nstrike 8 x m 4 a 4', texts[0])]
+[True, False]
+"""
+
+SIGHTS = r"""
+>>> from nevertakenback.courts import Court
+>>> from nevertakenback.plays import Play
+>>> from nevertakenback.sights import seen_legs, sight, spot, stretches, tick_seen
+>>> rows = ['court', 'stretch 1/2 2', 'place a', 'place b', 'place c', 'way a b 2', 'way b c 3', 'player p a', 'player q c']
+>>> court = Court('\n'.join(rows + ['delay p q 3', 'delay q p 1', 'ball x a', 'ball y c']))
+>>> play = Play(court, 'play\nstrike 0 x b 3 c 3\nstrike 0 y b 3 a 2\nstrike 6 y b 4 a 2')
+>>> field = ((1, 2), (3, 2), (3, 1))
+>>> [seen_legs(play, field, 'x'), stretches(play, field, 'x')]
+[(('a', 'b', (1, 2), (9, 2)), ('b', 'a', (9, 2), (11, 2))), ((4, 3), (1, 2))]
+>>> stretches(play, field, 'y')
+((1, 2), (3, 2), (5, 8), (1, 2))
+>>> [spot(play, field, 'x', time) for time in ((0, 1), (1, 2), (5, 2), (9, 2), (5, 1), (20, 1))]
+[('at', 'a'), ('at', 'a'), ('on', 'a', 'b', (1, 2)), ('at', 'b'), ('on', 'b', 'a', (1, 2)), ('at', 'a')]
+>>> [tick_seen(play, field, 'x', time) for time in ((0, 1), (5, 2), (9, 2), (5, 1), (20, 1))]
+[(-1, 2), (3, 2), (3, 1), (4, 1), (39, 2)]
+>>> sight(play, field, (10, 1))
+(('x', ('at', 'a')), ('y', ('on', 'c', 'b', (2, 5))))
+"""
+
+LETTERS = r"""
+>>> from nevertakenback.courts import Court
+>>> from nevertakenback.letters import due_by, Ear, letters_of
+>>> from nevertakenback.plays import Play
+>>> lines = ['court', 'stretch 1/2 3/2', 'place a', 'place b', 'way a b 4', 'player ann a', 'player bob b', 'delay bob ann 3', 'ball x a']
+>>> court = Court('\n'.join(lines))
+>>> play = Play(court, 'play\nstrike 2 x b 5\nstrike 9 x a 4\nstrike 20 x b 4')
+>>> told = letters_of(play)
+>>> [told[0], [letter[1:3] for letter in told]]
+[('strike', 'ann', 0, (2, 'x', (('b', 5),))), [('ann', 0), ('bob', 0), ('ann', 1)]]
+>>> ear = Ear(court, 'bob')
+>>> [ear.hear(told[2]), ear.heard('ann'), ear.known(), ear.hear(told[0]), ear.heard('ann'), len(ear.known())]
+[None, 0, (), None, 2, 2]
+>>> [due_by(court, ((1, 1), (1, 2)), 'bob', told[0]), due_by(court, ((1, 1), (1, 2)), 'ann', told[1])]
+[(6, 1), (19, 2)]
+"""
+
 
 def example(name, text):
     """A test that runs the examples in this text."""
     return doctest.DocTestCase(doctest.DocTestParser().get_doctest(text, {}, name, None, 0))
 
 
-SECTIONS = {4: COURTS, 5: PLAYS, 6: CONES, 7: RINGS, 8: FIELDS}
+SECTIONS = {4: COURTS, 5: PLAYS, 6: CONES, 7: RINGS, 8: FIELDS, 9: FAULTS, 10: SIGHTS, 11: LETTERS}
 
 
 def load_tests(loader, tests, pattern):

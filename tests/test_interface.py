@@ -3,7 +3,7 @@
 import inspect
 import unittest
 
-from nevertakenback import cones, courts, fields, lags, plays, rings
+from nevertakenback import cones, courts, faults, fields, lags, letters, plays, rings, sights
 from nevertakenback.courts import Court
 from nevertakenback.plays import Play
 from tests.samples import LINE, PLAY, TRIANGLE, court_of, play_of, text_of
@@ -35,7 +35,18 @@ PARAMETERS = {
         "is_field": ["court", "lags", "player", "field"], "all_fields": ["court", "lags"],
         "field_on": ["court", "field", "spot"],
     },
+    sights: {
+        "seen_legs": ["play", "field", "ball"], "stretches": ["play", "field", "ball"],
+        "tick_seen": ["play", "field", "ball", "time"], "spot": ["play", "field", "ball", "time"],
+        "sight": ["play", "field", "time"],
+    },
+    faults: {
+        "fault": ["court", "lags", "fields"], "breaking": ["court", "lags", "fields"],
+        "shows_breaking": ["court", "lags", "fields", "value"],
+    },
+    letters: {"letters_of": ["play"], "due_by": ["court", "lags", "player", "letter"], "Ear": ["court", "player"]},
 }
+METHODS = {letters.Ear: {"hear": ["self", "letter"], "heard": ["self", "player"], "known": ["self"]}}
 
 
 class Interface(unittest.TestCase):
@@ -46,6 +57,11 @@ class Interface(unittest.TestCase):
                 self.assertEqual(list(inspect.signature(found).parameters), parameters, name)
                 self.assertEqual(found.__module__, module.__name__)
                 self.assertEqual(found.__name__, name)
+
+    def test_methods_are_defined_in_the_classes_themselves(self):
+        for owner, rows in METHODS.items():
+            for name, parameters in rows.items():
+                self.assertEqual(list(inspect.signature(vars(owner)[name]).parameters), parameters, name)
 
     def test_equality_is_defined_in_the_classes_themselves(self):
         self.assertIn("__eq__", vars(Court))
@@ -102,3 +118,25 @@ class Interface(unittest.TestCase):
         self.assertEqual(fields.is_field(field=least, player="p", lags=row, court=court), True)
         self.assertEqual(fields.all_fields(lags=row, court=court)[0], least)
         self.assertEqual(fields.field_on(spot=("at", "b"), field=least, court=court), (3, 2))
+
+    def test_all_arguments_of_sights_by_name(self):
+        play, field = play_of(PLAY, LINE), ((1, 2), (3, 2), (3, 1))
+        self.assertEqual(sights.seen_legs(ball="x", field=field, play=play)[0], ("a", "b", (1, 2), (9, 2)))
+        self.assertEqual(sights.stretches(ball="x", field=field, play=play), ((4, 3), (1, 2)))
+        self.assertEqual(sights.tick_seen(time=(5, 1), ball="x", field=field, play=play), (4, 1))
+        self.assertEqual(sights.spot(time=(9, 2), ball="x", field=field, play=play), ("at", "b"))
+        self.assertEqual(sights.sight(time=(10, 1), field=field, play=play)[0], ("x", ("at", "a")))
+
+    def test_all_arguments_of_faults_by_name(self):
+        court, row = court_of(LINE), ((1, 2), (0, 1))
+        offered = (((0, 1), (3, 2), (3, 1)), fields.all_fields(court, row)[1])
+        self.assertEqual(faults.fault(fields=offered, lags=row, court=court), ("home", "p", "a"))
+        paper = faults.breaking(fields=offered, lags=row, court=court)
+        self.assertEqual(faults.shows_breaking(value=paper, fields=offered, lags=row, court=court), True)
+
+    def test_all_arguments_of_letters_by_name(self):
+        court = court_of(LINE)
+        told = letters.letters_of(play=play_of(PLAY, LINE))
+        self.assertEqual(letters.due_by(letter=told[0], player="q", lags=((1, 2), (0, 1)), court=court), (3, 2))
+        ear = letters.Ear(player="q", court=court)
+        self.assertEqual([ear.hear(letter=told[0]), ear.heard(player="p"), len(ear.known())], [None, 1, 1])

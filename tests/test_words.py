@@ -1,7 +1,7 @@
 """Section 2: what integers, fractions, ticks, names and courses are."""
 
 from nevertakenback.courses import is_course
-from nevertakenback.exact import fraction, greatest, is_at_most, is_less, lesser, minus, plus, times
+from nevertakenback.exact import fraction, greatest, is_at_most, is_less, lesser, minus, over, plus, times
 from nevertakenback.words import (
     is_fraction, is_integer, is_integer_from, is_name, is_row, is_tick, is_time, read_fraction, read_integer, write_fraction,
 )
@@ -92,6 +92,9 @@ class Fractions(Case):
     def test_sums_and_products(self):
         self.same([plus((1, 2), (1, 3)), plus((1, 2), (-1, 2)), plus((3, 2), (1, 2))], [(5, 6), (0, 1), (2, 1)])
         self.same([times((2, 3), (3, 2)), times((-1, 2), (1, 3)), times((0, 1), (7, 2))], [(1, 1), (-1, 6), (0, 1)])
+
+    def test_quotients(self):
+        self.same([over((1, 2), (1, 3)), over((-1, 2), (3, 2)), over((0, 1), (7, 2))], [(3, 2), (-1, 3), (0, 1)])
 
     def test_the_greatest_one(self):
         self.same([greatest([(1, 2)]), greatest([(1, 2), (2, 3), (-9, 1)]), greatest([(0, 1), (-1, 7)])], [(1, 2), (2, 3), (0, 1)])
