@@ -157,6 +157,12 @@ class Breaking(Case):
         for text, number, told in ((there, 0, True), (back, 0, True), (back, 1, False)):
             self.assertIs(shows_breaking(court, LAGS, fields, paper + (text, "x", number)), told)
 
+    def test_a_way_that_is_steep_in_one_direction_alone(self):
+        # Of the 4 ticks from a to m 9/4 are seen, which is not less than half of them; back it is 23/4, above 5.
+        lines = changed(changed(FORK, "stretch 1/2 2", "stretch 1/2 5/4"), "delay ann bob 3", "delay ann bob 0")
+        paper = self.broken(lines, ((7, 4), (0, 1)), (((7, 4), (0, 1), (0, 1), (0, 1)), FINE[1]))
+        self.same([paper[:4], paper[5:]], [("steep", "ann", "a", "m"), ("x", 1)])
+
     def test_in_the_greatest_court(self):
         # All places in one row, so that balls have far to go.
         lines = ["court", "stretch 1/2 2"] + [f"place {place}" for place in "abcdefghijkl"]
