@@ -1,9 +1,8 @@
 """Section 5: plays and what is told of them."""
 
-from nevertakenback.courts import Court, with_length
 from nevertakenback.errors import BadStrike, BadTick, CannotStand, NoBall
 from nevertakenback.plays import Play, last_tick, legs, meetings, strikers, where, with_strike
-from tests.samples import LINE, PLAY, TRIANGLE, Case, changed, court_of, play_of, text_of, wrong_values
+from tests.samples import LINE, PLAY, Case, changed, court_of, play_of, text_of, wrong_values
 
 # All in one room, so that strikes can be done everywhere; four ways of length 1 lead to m.
 STAR = [
