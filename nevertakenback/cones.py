@@ -2,7 +2,7 @@
 
 from nevertakenback.checks import check_place, check_tick
 from nevertakenback.errors import BadNumbers, Unlike
-from nevertakenback.plays import Play, strikers, write_strike
+from nevertakenback.plays import Play, is_behind, strikers, write_strike
 from nevertakenback.runs import Run
 from nevertakenback.words import is_integer_from
 
@@ -52,11 +52,12 @@ def are_numbers(play, value):
 def standing_play(court, strikes):
     """The Play of those of the strikes, ascending, that can stand behind those ahead of them."""
     run = Run(court)
-    lines = ["play"]
+    stood = []
     for strike in strikes:
-        if run.take(strike):
-            lines.append(write_strike(strike))
-    return Play(court, "\n".join(lines))
+        # Engines may know more strikes than a play has, or two of one ball in one tick: a play has none of those.
+        if is_behind(stood, strike) and run.take(strike):
+            stood.append(strike)
+    return Play(court, "\n".join(["play"] + [write_strike(strike) for strike in stood]))
 
 
 def seen_alike(one, other, place, tick):

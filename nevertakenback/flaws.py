@@ -33,10 +33,15 @@ def news_flaws(court, lag_of, player, lateness):
 
 
 def steep_flaws(court, player, lateness):
-    """All ways over which the field changes by more than it may."""
+    """All ways over which the player's field changes by more than it may."""
+    return [("steep", player, one, other) for one, other in steep_ways(court, lateness)]
+
+
+def steep_ways(court, lateness):
+    """The two places of all ways over which the field changes by more than it may."""
     soft = give(court)
     return [
-        ("steep", player, one, other)
+        (one, other)
         for one, other, length in court.ways
         if not is_at_most(change(lateness, one, other), times(soft, (length, 1)))
     ]

@@ -76,13 +76,17 @@ class Ear:
             count += 1
         return count
 
-    def known(self):
-        """All strikes, of all players, that are known without a gap, ascending."""
-        strikes = []
+    def known_letters(self):
+        """The letters of all strikes that are known without a gap, player by player."""
+        letters = []
         for player in self.held:
             for number in range(self.heard(player)):
-                strikes.append(self.held[player][number])
-        return tuple(sorted(strikes))
+                letters.append(("strike", player, number, self.held[player][number]))
+        return letters
+
+    def known(self):
+        """All strikes, of all players, that are known without a gap, ascending."""
+        return tuple(sorted([letter[3] for letter in self.known_letters()]))
 
 
 def is_clash(held, number, strike):

@@ -10,9 +10,14 @@ from nevertakenback.words import is_pair, is_row
 
 def needs(court):
     """For all two unlike players by how much the one's lag must be above the other's, at least."""
+    return needs_by(court, (1, 1))
+
+
+def needs_by(court, factor):
+    """What needs tells if each delay is so many times as long."""
     soft = give(court)
     return tuple([
-        (one, other, minus((ticks, 1), times(soft, (apart(court, one, other), 1))))
+        (one, other, minus(times(factor, (ticks, 1)), times(soft, (apart(court, one, other), 1))))
         for one, other, ticks in court.delays
     ])
 
@@ -21,10 +26,15 @@ def ring_need(court, players):
     """The needs of each player of the ring from the next one on, added up."""
     if not is_ring(court, players):
         raise BadRing(players)
-    table = {(one, other): need for one, other, need in needs(court)}
+    return sum_round(needs(court), players)
+
+
+def sum_round(table, ring):
+    """What a table of needs tells of each player of the ring and the next one, added up."""
+    need_of = {(one, other): need for one, other, need in table}
     total = (0, 1)
-    for one, other in zip(players, players[1:] + players[:1]):
-        total = plus(total, table[one, other])
+    for one, other in zip(ring, ring[1:] + ring[:1]):
+        total = plus(total, need_of[one, other])
     return total
 
 
@@ -59,9 +69,14 @@ def no_lags(court):
 
 def shows_holds(court, value):
     """Whether any value is right as what holds tells."""
-    told = holds(court)
-    if not is_pair(value) or value[0] != told[0]:
+    return shows_settled(court, needs(court), value)
+
+
+def shows_settled(court, table, value):
+    """Whether any value is the least row that fits a table of needs, or a ring whose needs bar all rows."""
+    kind, told = settle(list(court.rooms), table, no_lags(court))
+    if not is_pair(value) or value[0] != kind:
         return False
-    if told[0] == "lags":
-        return is_row(value[1], len(court.players)) and value[1] == told[1]
-    return is_ring(court, value[1]) and is_less((0, 1), ring_need(court, value[1]))
+    if kind == "lags":
+        return is_row(value[1], len(court.players)) and value[1] == told
+    return is_ring(court, value[1]) and is_less((0, 1), sum_round(table, value[1]))

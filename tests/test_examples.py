@@ -150,13 +150,116 @@ LETTERS = r"""
 [(6, 1), (19, 2)]
 """
 
+ENGINES = r"""
+>>> from nevertakenback.courts import Court
+>>> from nevertakenback.engines import Engine
+>>> from nevertakenback.fields import all_fields
+>>> lines = ['court', 'stretch 1/2 2', 'place a', 'place m', 'place b', 'way a m 4', 'way m b 4', 'player ann a', 'player bob b']
+>>> court = Court('\n'.join(lines + ['delay ann bob 3', 'delay bob ann 5', 'ball x a']))
+>>> lags = ((0, 1), (1, 1))
+>>> fields = all_fields(court, lags)
+>>> fields
+(((0, 1), (2, 1), (4, 1)), ((5, 1), (3, 1), (1, 1)))
+>>> ann, bob = Engine(court, lags, fields, 'ann'), Engine(court, lags, fields, 'bob')
+>>> letter = ann.strike((2, 1), 'x', (('m', 4), ('b', 4)))
+>>> [letter, ann.shows((5, 1)), bob.shows((5, 1))]
+[('strike', 'ann', 0, (2, 'x', (('m', 4), ('b', 4)))), (('x', ('on', 'a', 'm', (1, 2))),), (('x', ('at', 'a')),)]
+>>> bob.hear(letter)
+>>> [bob.shows(time) for time in ((5, 1), (7, 1), (8, 1), (9, 1), (11, 1))]
+[(('x', ('at', 'a')),), (('x', ('at', 'a')),), (('x', ('on', 'a', 'm', (1, 2))),), (('x', ('at', 'm')),), (('x', ('at', 'b')),)]
+>>> [bob.story((6, 1)), bob.story((7, 1)) == bob.play.strikes]
+[(), True]
+>>> back = bob.strike((11, 1), 'x', (('m', 5), ('a', 4)))
+>>> ann.hear(back)
+>>> [back[2:], ann.shows((14, 1)), ann.shows((33, 2)), ann.shows((99, 1))]
+[(0, (10, 'x', (('m', 5), ('a', 4)))), (('x', ('at', 'b')),), (('x', ('on', 'b', 'm', (5, 6))),), (('x', ('at', 'a')),)]
+"""
+
+HALLS = r"""
+>>> from nevertakenback.courts import Court
+>>> from nevertakenback.halls import Hall
+>>> lines = ['court', 'stretch 1/2 3/2', 'place a', 'place b', 'way a b 4', 'player ann a', 'player bob b', 'delay bob ann 2', 'ball x a']
+>>> hall = Hall(Court('\n'.join(lines)))
+>>> [hall.lags, hall.fields, hall.clock, hall.seen('bob')]
+[((0, 1), (0, 1)), (((0, 1), (0, 1)), ((2, 1), (0, 1))), (0, 1), (('x', ('at', 'a')),)]
+>>> [hall.do(('wait', (3, 1))), hall.do(('strike', 'ann', 'x', (('b', 4),)))]
+[None, ('strike', 'ann', 0, (3, 'x', (('b', 4),)))]
+>>> [hall.bag, hall.do(('lose', 1)), hall.bag, hall.check()]
+[((1, 'bob', ('strike', 'ann', 0, (3, 'x', (('b', 4),)))),), None, (), ('right',)]
+>>> [hall.do(('wait', (6, 1))), hall.seen('ann'), hall.seen('bob'), hall.check()]
+[None, (('x', ('on', 'a', 'b', (3, 4))),), (('x', ('on', 'a', 'b', (1, 2))),), ('right',)]
+>>> [hall.do(('wait', (7, 1))), hall.do(('strike', 'bob', 'x', (('a', 4),)))[3], hall.seen('bob'), len(hall.play.strikes)]
+[None, (7, 'x', (('a', 4),)), (('x', ('at', 'b')),), 2]
+"""
+
+HEADROOM = r"""
+>>> from nevertakenback.courts import Court
+>>> from nevertakenback.headroom import headroom, holds_by, least_slowing, shows_headroom, tight
+>>> lines = ['court', 'stretch 1/2 2', 'place a', 'place m', 'place b', 'place c', 'way a m 4', 'way m b 4', 'way m c 2']
+>>> lines = lines + ['player ann a', 'player bob b', 'player cid c', 'delay ann bob 5', 'delay bob ann 2', 'delay ann cid 1']
+>>> court = Court('\n'.join(lines + ['delay cid ann 4', 'delay bob cid 3', 'delay cid bob 2', 'ball x a']))
+>>> calm = Court('\n'.join(lines + ['delay cid ann 4', 'delay bob cid 1', 'delay cid bob 2', 'ball x a']))
+>>> [headroom(court)[:2], headroom(calm)[:2], least_slowing(court), least_slowing(calm)]
+[('factor', (5, 6)), ('factor', (1, 1)), 2, 1]
+>>> [holds_by(court, factor)[0] for factor in ((0, 1), (5, 6), (6, 7), (1, 1))]
+['lags', 'lags', 'ring', 'ring']
+>>> [shows_headroom(court, ('factor', (5, 6), ('bob', 'cid', 'ann'))), shows_headroom(court, ('factor', (8, 7), ('ann', 'bob')))]
+[True, False]
+>>> [tight(calm), holds_by(court, (5, 6))]
+[(('ann', 'bob'), ('bob', 'cid'), ('cid', 'ann')), ('lags', ((1, 6), (0, 1), (1, 2)))]
+>>> still = Court('\n'.join(lines[:1] + ['stretch 1 1'] + lines[2:12] + ['ball x a']))
+>>> bare = Court('\n'.join(lines[:12] + ['ball x a']))
+>>> [headroom(bare), headroom(still), least_slowing(still)]
+[('any',), ('any',), 1]
+"""
+
+CLOCKS = r"""
+>>> from nevertakenback.clocks import lags_of, led_back, measured
+>>> from nevertakenback.courts import Court
+>>> from nevertakenback.watchers import is_watcher_field, least_lag, watcher_field
+>>> lines = ['court', 'stretch 1/2 3/2', 'place a', 'place b', 'place c', 'way a b 4', 'way b c 2', 'player ann a', 'player bob b', 'delay ann bob 3', 'ball x a']
+>>> court = Court('\n'.join(lines))
+>>> measured(court, ((1, 1), (-1, 2)))
+(('ann', 'bob', (5, 2)), ('bob', 'ann', (-7, 2)))
+>>> [lags_of(court, measured(court, offsets))[1] for offsets in (((0, 1), (0, 1)), ((1, 1), (-1, 2)))]
+[((1, 1), (0, 1)), ((5, 2), (0, 1))]
+>>> led_back(court, ((5, 2), (0, 1)), ((1, 1), (-1, 2)))
+((3, 2), (1, 2))
+>>> lags = ((1, 1), (0, 1))
+>>> [watcher_field(court, lags, (5, 1)), least_lag(court, lags, (5, 1), 'c'), is_watcher_field(court, lags, (5, 1), ((6, 1), (4, 1), (4, 1)))]
+[((6, 1), (4, 1), (3, 1)), (3, 1), True]
+"""
+
+SCRIPTS = r"""
+>>> from nevertakenback.courts import Court
+>>> from nevertakenback.desk import Desk
+>>> from nevertakenback.journals import journal, read_journal
+>>> from nevertakenback.scripts import played
+>>> lines = ['court', 'stretch 1/2 3/2', 'place a', 'place b', 'way a b 4', 'player ann a', 'player bob b', 'delay bob ann 2', 'ball x a']
+>>> deeds = ['lags', 'wait 3', 'strike ann x b 4', 'bag', 'lose 1', 'wait 6', 'see ann', 'see bob', 'check', 'headroom']
+>>> played('\n'.join(lines + ['hall'] + deeds))
+('0 0', 'ok', '3 0', '1', 'ok', 'ok', 'x on a b 3/4', 'x on a b 1/2', 'right', '2')
+>>> desk = Desk(Court('\n'.join(lines)))
+>>> [desk.say(line) for line in ('strike bob x a 4', 'wait 1/2', 'strike ann x b 4', 'wait 2', 'strike ann x b 4', 'hand 1', 'clock')]
+['? NotSeen', 'ok', '? NotSeen', 'ok', '2 0', 'ok', '2']
+>>> [desk.tried(('wait 7', 'see bob', 'lose 9')), desk.say('see bob'), desk.undo(), desk.undo(), desk.undo()]
+[('ok', 'x at b', '? NoLetter'), 'x at a', None, None, None]
+>>> [desk.lines[-1], desk.answers[-1], desk.redo(), desk.lines[-1], desk.copy() == desk]
+['strike ann x b 4', '2 0', None, 'hand 1', True]
+>>> [journal(desk).split('\n')[8:11], read_journal(journal(desk)) == desk, len(read_journal(journal(desk)).lines)]
+[['ball x a', 'hall', 'strike bob x a 4'], True, 6]
+"""
+
 
 def example(name, text):
     """A test that runs the examples in this text."""
     return doctest.DocTestCase(doctest.DocTestParser().get_doctest(text, {}, name, None, 0))
 
 
-SECTIONS = {4: COURTS, 5: PLAYS, 6: CONES, 7: RINGS, 8: FIELDS, 9: FAULTS, 10: SIGHTS, 11: LETTERS}
+SECTIONS = {
+    4: COURTS, 5: PLAYS, 6: CONES, 7: RINGS, 8: FIELDS, 9: FAULTS, 10: SIGHTS, 11: LETTERS, 12: ENGINES, 13: HALLS,
+    14: HEADROOM, 15: CLOCKS, 16: SCRIPTS,
+}
 
 
 def load_tests(loader, tests, pattern):

@@ -3,7 +3,9 @@
 import inspect
 import unittest
 
-from nevertakenback import cones, courts, faults, fields, lags, letters, plays, rings, sights
+from nevertakenback import (
+    clocks, cones, courts, engines, faults, fields, halls, headroom, lags, letters, plays, rings, sights, watchers,
+)
 from nevertakenback.courts import Court
 from nevertakenback.plays import Play
 from tests.samples import LINE, PLAY, TRIANGLE, court_of, play_of, text_of
@@ -45,8 +47,29 @@ PARAMETERS = {
         "shows_breaking": ["court", "lags", "fields", "value"],
     },
     letters: {"letters_of": ["play"], "due_by": ["court", "lags", "player", "letter"], "Ear": ["court", "player"]},
+    engines: {"Engine": ["court", "lags", "fields", "player"]},
+    halls: {"Hall": ["court"]},
+    headroom: {
+        "headroom": ["court"], "shows_headroom": ["court", "value"], "holds_by": ["court", "factor"], "tight": ["court"],
+        "least_slowing": ["court"],
+    },
+    clocks: {
+        "measured": ["court", "offsets"], "lags_of": ["court", "table"], "shows_lags_of": ["court", "table", "value"],
+        "led_back": ["court", "lags", "offsets"],
+    },
+    watchers: {
+        "watcher_field": ["court", "lags", "delays"], "is_watcher_field": ["court", "lags", "delays", "field"],
+        "least_lag": ["court", "lags", "delays", "place"],
+    },
 }
-METHODS = {letters.Ear: {"hear": ["self", "letter"], "heard": ["self", "player"], "known": ["self"]}}
+METHODS = {
+    letters.Ear: {"hear": ["self", "letter"], "heard": ["self", "player"], "known": ["self"]},
+    engines.Engine: {
+        "strike": ["self", "time", "ball", "course"], "hear": ["self", "letter"], "shows": ["self", "time"],
+        "story": ["self", "time"],
+    },
+    halls.Hall: {"do": ["self", "deed"], "seen": ["self", "player"], "check": ["self"]},
+}
 
 
 class Interface(unittest.TestCase):
@@ -72,6 +95,11 @@ class Interface(unittest.TestCase):
             self.assertIn(name, vars(court_of(LINE)))
         for name in ("court", "text", "strikes"):
             self.assertIn(name, vars(play_of(PLAY, LINE)))
+        court, row = court_of(LINE), ((1, 2), (0, 1))
+        for name in ("court", "player", "letters", "play"):
+            self.assertIn(name, vars(engines.Engine(court, row, fields.all_fields(court, row), "p")))
+        for name in ("court", "lags", "fields", "clock", "play", "bag"):
+            self.assertIn(name, vars(halls.Hall(court)))
 
     def test_all_arguments_by_name(self):
         court = Court(text=text_of(TRIANGLE))
@@ -140,3 +168,39 @@ class Interface(unittest.TestCase):
         self.assertEqual(letters.due_by(letter=told[0], player="q", lags=((1, 2), (0, 1)), court=court), (3, 2))
         ear = letters.Ear(player="q", court=court)
         self.assertEqual([ear.hear(letter=told[0]), ear.heard(player="p"), len(ear.known())], [None, 1, 1])
+
+    def test_all_arguments_of_engines_by_name(self):
+        court, row = court_of(LINE), ((1, 2), (0, 1))
+        engine = engines.Engine(player="p", fields=fields.all_fields(court, row), lags=row, court=court)
+        letter = engine.strike(course=(("b", 2), ("a", 2)), ball="x", time=(1, 2))
+        self.assertEqual(letter, ("strike", "p", 0, (0, "x", (("b", 2), ("a", 2)))))
+        self.assertEqual([engine.hear(letter=letter), engine.story(time=(1, 2))], [None, (letter[3],)])
+        self.assertEqual(engine.shows(time=(2, 1))[0], ("x", ("on", "a", "b", (1, 2))))
+
+    def test_all_arguments_of_halls_by_name(self):
+        hall = halls.Hall(court=court_of(LINE))
+        self.assertEqual(hall.do(deed=("wait", (1, 2))), None)
+        self.assertEqual(hall.seen(player="q")[1], ("y", ("at", "c")))
+
+    def test_all_arguments_of_headroom_by_name(self):
+        court = court_of(LINE)
+        value = headroom.headroom(court=court)
+        self.assertEqual(headroom.shows_headroom(value=value, court=court), True)
+        self.assertEqual(headroom.holds_by(factor=(1, 1), court=court), rings.holds(court))
+        self.assertEqual([headroom.tight(court=court), headroom.least_slowing(court=court)], [(), 1])
+
+    def test_all_arguments_of_clocks_by_name(self):
+        court, offsets = court_of(LINE), ((1, 1), (0, 1))
+        table = clocks.measured(offsets=offsets, court=court)
+        self.assertEqual(table, (("p", "q", (3, 2)), ("q", "p", (-5, 2))))
+        value = clocks.lags_of(table=table, court=court)
+        self.assertEqual(value, ("lags", ((3, 2), (0, 1))))
+        self.assertEqual(clocks.shows_lags_of(value=value, table=table, court=court), True)
+        self.assertEqual(clocks.led_back(offsets=offsets, lags=value[1], court=court), ((1, 2), (0, 1)))
+
+    def test_all_arguments_of_watchers_by_name(self):
+        court, row = court_of(LINE), ((1, 2), (0, 1))
+        field = watchers.watcher_field(delays=(1, 1), lags=row, court=court)
+        self.assertEqual(field, ((3, 2), (1, 2), (1, 1)))
+        self.assertEqual(watchers.is_watcher_field(field=field, delays=(1, 1), lags=row, court=court), True)
+        self.assertEqual(watchers.least_lag(place="c", delays=(1, 1), lags=row, court=court), (1, 1))
