@@ -4,7 +4,8 @@ import inspect
 import unittest
 
 from nevertakenback import (
-    clocks, cones, courts, engines, faults, fields, halls, headroom, lags, letters, plays, rings, sights, watchers,
+    clocks, cones, courts, desk, engines, faults, fields, halls, headroom, journals, lags, letters, plays, rings, scripts,
+    sights, watchers,
 )
 from nevertakenback.courts import Court
 from nevertakenback.plays import Play
@@ -61,6 +62,9 @@ PARAMETERS = {
         "watcher_field": ["court", "lags", "delays"], "is_watcher_field": ["court", "lags", "delays", "field"],
         "least_lag": ["court", "lags", "delays", "place"],
     },
+    scripts: {"played": ["text"]},
+    desk: {"Desk": ["court"]},
+    journals: {"journal": ["desk"], "read_journal": ["text"]},
 }
 METHODS = {
     letters.Ear: {"hear": ["self", "letter"], "heard": ["self", "player"], "known": ["self"]},
@@ -69,6 +73,9 @@ METHODS = {
         "story": ["self", "time"],
     },
     halls.Hall: {"do": ["self", "deed"], "seen": ["self", "player"], "check": ["self"]},
+    desk.Desk: {
+        "say": ["self", "line"], "undo": ["self"], "redo": ["self"], "tried": ["self", "lines"], "copy": ["self"],
+    },
 }
 
 
@@ -89,6 +96,7 @@ class Interface(unittest.TestCase):
     def test_equality_is_defined_in_the_classes_themselves(self):
         self.assertIn("__eq__", vars(Court))
         self.assertIn("__eq__", vars(Play))
+        self.assertIn("__eq__", vars(desk.Desk))
 
     def test_attributes_are_set_when_the_object_is_created(self):
         for name in ("text", "stretch", "places", "ways", "players", "delays", "balls"):
@@ -100,6 +108,8 @@ class Interface(unittest.TestCase):
             self.assertIn(name, vars(engines.Engine(court, row, fields.all_fields(court, row), "p")))
         for name in ("court", "lags", "fields", "clock", "play", "bag"):
             self.assertIn(name, vars(halls.Hall(court)))
+        for name in ("court", "hall", "lines", "answers"):
+            self.assertIn(name, vars(desk.Desk(court)))
 
     def test_all_arguments_by_name(self):
         court = Court(text=text_of(TRIANGLE))
@@ -204,3 +214,9 @@ class Interface(unittest.TestCase):
         self.assertEqual(field, ((3, 2), (1, 2), (1, 1)))
         self.assertEqual(watchers.is_watcher_field(field=field, delays=(1, 1), lags=row, court=court), True)
         self.assertEqual(watchers.least_lag(place="c", delays=(1, 1), lags=row, court=court), (1, 1))
+
+    def test_all_arguments_of_scripts_desks_and_journals_by_name(self):
+        self.assertEqual(scripts.played(text=text_of(LINE + ["hall", "lags", "clock"])), ("1/2 0", "0"))
+        found = desk.Desk(court=court_of(LINE))
+        self.assertEqual([found.say(line="wait 7"), found.tried(lines=("clock",))], ["ok", ("7",)])
+        self.assertEqual(journals.read_journal(text=journals.journal(desk=found)), found)
