@@ -69,8 +69,9 @@ class Desk:
     def copy(self):
         """A desk of its own, alike in all things."""
         desk = Desk(self.court)
-        for line in self.lines:
-            desk.take(line)
+        desk.hall = self.led_anew()
+        desk.lines = self.lines
+        desk.answers = self.answers
         desk.undone = self.undone
         return desk
 

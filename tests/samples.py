@@ -5,7 +5,10 @@ import random
 import unittest
 
 from nevertakenback.courts import Court
+from nevertakenback.desk import Desk
 from nevertakenback.errors import CannotStand
+from nevertakenback.halls import Hall
+from nevertakenback.letters import Ear
 from nevertakenback.plays import Play, last_tick, where, with_strike
 
 LETTERS = "abcdefghijkl"
@@ -64,13 +67,19 @@ def deep(times):
     return value
 
 
+# One object of each class; no test changes them.
+OBJECTS = [
+    court_of(LINE), play_of(PLAY, LINE), Ear(court_of(LINE), "p"), Hall(court_of(LINE)), Desk(court_of(LINE)),
+    Hall(court_of(LINE)).engines["p"],
+]
+
+
 def wrong_values():
     """Values of all kinds, none of them a name of a sample, a tick, a fraction, a strike or a text."""
     return [
         None, True, False, -1, 100000, 10 ** 11, "", " ", "A", "a ", "a b", "nobody", "sevenxs", "0", "1/2",
         [], ["a"], {}, {"a": 1}, (), ("a",), (None, None), deep(30), ["a", ["b"]],
-        court_of(LINE), play_of(PLAY, LINE),
-    ]
+    ] + OBJECTS
 
 
 def wrong_rows(row):

@@ -358,3 +358,19 @@ class Looking(HallCase):
         hall.do(("lose", 1))
         self.same([len(bag), len(play.strikes), seen[0]], [1, 1, ("x", ("at", "a"))])
         self.same([len(hall.bag), len(hall.play.strikes)], [1, 2])
+
+    def test_round_six_players_all_of_whose_letters_are_lost(self):
+        hall = hall_of(WHEEL)
+        self.same(hall.lags, whole(0, 0, 0, 0, 0, 0))
+        for at in range(13):
+            here, there = "abcdef"[at % 6], "abcdef"[(at + 1) % 6]
+            letter = hall.do(("strike", f"p{here}", "x", ((there, 4),)))
+            self.same(letter[2:], (at // 6, (4 * at, "x", ((there, 4),))))
+            self.same([row[0] for row in hall.bag], [5 * at + number for number in range(1, 6)])
+            for number in range(1, 6):
+                hall.do(("lose", 5 * at + number))
+            for time in ((8 * at + 3, 2), (4 * at + 4, 1)):
+                hall.do(("wait", time))
+                self.same(hall.check(), ("right",))
+            self.same(hall.seen(f"p{there}")[0], ("x", ("at", there)))
+        self.same([hall.bag, len(hall.play.strikes)], [(), 13])
